@@ -9,6 +9,7 @@ import (
 
 	"skewer/api"
 	"skewer/run"
+	"skewer/specimen"
 )
 
 // P1, P2: no game and no position makes a function panic, or is modified, and the results are the same ones each time.
@@ -16,9 +17,9 @@ func TestAnything(t *testing.T) {
 	r := rand.New(rand.NewPCG(7, 8))
 	done := 0
 	for x := range samples() {
-		x.g = otherGame(r, x.g)
+		x.g = specimen.OtherGame(r.IntN, x.g)
 		if r.IntN(3) == 0 {
-			x.p = otherPos(r, x.p)
+			x.p = specimen.OtherPos(r.IntN, x.p)
 		}
 		before := fmt.Sprint(x)
 		first := all(x)
@@ -44,100 +45,9 @@ func all(x sample) []any {
 	return []any{l, e, cells, f, run.Drops(x.g, x.p)}
 }
 
-// otherGame returns g with something changed, by which it may not be valid any more.
-func otherGame(r *rand.Rand, g api.Game) api.Game {
-	n := edges[r.IntN(len(edges))]
-	switch r.IntN(8) {
-	case 0:
-		g.Rights = n
-	case 1:
-		g.Board.Turn = otherList(r, g.Board.Turn)
-	case 2:
-		g.Board.Next = slices.Clone(g.Board.Next)
-		d := r.IntN(len(g.Board.Next))
-		g.Board.Next[d] = otherList(r, g.Board.Next[d])
-	case 3:
-		g.Board.Next = nil
-	case 4:
-		return g
-	default:
-		g.Kinds = slices.Clone(g.Kinds)
-		for i, k := range g.Kinds {
-			g.Kinds[i].Progs = slices.Clone(k.Progs)
-			for j := range k.Progs {
-				g.Kinds[i].Progs[j] = otherProg(r, k.Progs[j])
-			}
-		}
-	}
-	return g
-}
-
-// otherProg returns steps that need not be a program.
-func otherProg(r *rand.Rand, p api.Prog) api.Prog {
-	p = slices.Clone(p)
-	number := edges[r.IntN(len(edges))]
-	switch r.IntN(4) {
-	case 0:
-		p[r.IntN(len(p))].Op = number
-	case 1:
-		p[r.IntN(len(p))].N = number
-	case 2:
-		return nil
-	default:
-		p = slices.Repeat(p, 1+r.IntN(3))
-	}
-	return p
-}
-
-// otherList returns l with an element changed, left out or added.
-func otherList(r *rand.Rand, l []int) []int {
-	l = slices.Clone(l)
-	switch r.IntN(3) {
-	case 0:
-		l[r.IntN(len(l))] = edges[r.IntN(len(edges))]
-	case 1:
-		return l[1:]
-	default:
-		l = append(l, edges[r.IntN(len(edges))])
-	}
-	return l
-}
-
-// otherPos returns p with something changed, by which it may not be valid any more.
-func otherPos(r *rand.Rand, p api.Pos) api.Pos {
-	p = copied(p)
-	switch r.IntN(5) {
-	case 0:
-		p.At = otherList(r, p.At)
-	case 1:
-		p.Hand[0] = otherList(r, p.Hand[0])
-	case 2:
-		p.Hand[1] = otherList(r, p.Hand[1])
-	case 3:
-		p.Rights = edges[r.IntN(len(edges))]
-	case 4:
-		p.Side = edges[r.IntN(len(edges))]
-	}
-	return p
-}
-
 // P1: a game that is not valid, with very many steps, kinds and cells, comes to an end.
 func TestGreatGames(t *testing.T) {
-	steps := slices.Repeat(api.Prog{{Op: api.Slide, N: 0}, {Op: api.Push, N: 1}, {Op: api.Slide, N: 1}}, 200)
-	kind := api.Kind{Name: "a", Keep: true, Progs: []api.Prog{steps, steps[:8], {{Op: api.Take}}}}
-	g := api.Game{Kinds: slices.Repeat([]api.Kind{kind}, 300), Rights: 60}
-	const cells = 100
-	g.Board = api.Board{Cells: cells, Next: make([][]int, 2), Turn: []int{1, 0}}
-	for c := range cells {
-		g.Board.Next[0] = append(g.Board.Next[0], (c+1)%cells)
-		g.Board.Next[1] = append(g.Board.Next[1], (c+7)%cells)
-	}
-	p := api.Pos{At: make([]int, cells), Hand: [2][]int{make([]int, 300), make([]int, 300)}}
-	for c := 0; c < cells; c += 2 {
-		p.At[c] = c * 6
-	}
-	p.Hand[0][299], p.Hand[0][0] = 1, 1
-	p.At[90], p.At[1] = 1, 1
+	g, p := specimen.Great()
 	for _, cell := range []int{1, 90, 98} {
 		for i := range 3 {
 			if got := all(sample{g, p, cell, i}); got[1] == api.ErrPos {

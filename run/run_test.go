@@ -14,6 +14,7 @@ import (
 	"skewer/pos"
 	"skewer/prog"
 	"skewer/run"
+	"skewer/specimen"
 )
 
 // row returns a game on a row of cells, whose direction 0 leads to the right, 1 to the left, and 2 nowhere but from the last cell to itself; with two rights and the kinds a, and b, which is kept. The program is one of a.
@@ -250,8 +251,8 @@ func TestErrors(t *testing.T) {
 	g := row(t, 4, "go0")
 	for side, men := range [2]string{"Ab.B/00/00/3/0", "bA.a/00/00/3/1"} {
 		p := parsed(t, g, men)
-		for _, cell := range append([]int{0, 1, 2, 3}, edges...) {
-			for _, i := range edges {
+		for _, cell := range append([]int{0, 1, 2, 3}, specimen.Edges()...) {
+			for _, i := range specimen.Edges() {
 				want := api.ErrRun
 				if i == 0 && (cell == 0 && side == 0 || cell == 3 && side == 1) {
 					want = api.OK
@@ -275,7 +276,7 @@ func TestErrors(t *testing.T) {
 		func(p *api.Pos) { p.Side = 2 },
 		func(p *api.Pos) { p.Side = -1 },
 	} {
-		bad := copied(p)
+		bad := specimen.Copied(p)
 		change(&bad)
 		if pos.Valid(g, bad) {
 			t.Fatalf("case %d is valid", n)
@@ -302,15 +303,15 @@ func TestDrops(t *testing.T) {
 	r := rand.New(rand.NewPCG(5, 6))
 	count := 0
 	for range 3000 {
-		g := anyGame(r)
-		p := anyPos(r, g)
+		g := specimen.Game(r.IntN)
+		p := specimen.Pos(r.IntN, g)
 		want := map[string]bool{}
 		for c, content := range p.At {
 			for i := range g.Kinds {
 				if content != 0 || p.Hand[p.Side][i] == 0 {
 					continue
 				}
-				q := copied(p)
+				q := specimen.Copied(p)
 				q.At[c] = 1 + 2*i + p.Side
 				q.Hand[p.Side][i]--
 				q.Side = 1 - p.Side

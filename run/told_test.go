@@ -12,6 +12,7 @@ import (
 	"skewer/pos"
 	"skewer/prog"
 	"skewer/run"
+	"skewer/specimen"
 )
 
 // told collects what the chapter tells of the ways of a man: each of them is followed by itself.
@@ -25,7 +26,7 @@ type told struct {
 func telling(x sample) told {
 	t := told{x.g, map[string]bool{}, map[int]bool{}}
 	kind, _ := game.Man(x.p.At[x.cell])
-	p := copied(x.p)
+	p := specimen.Copied(x.p)
 	p.At[x.cell] = 0
 	t.follow(p, x.cell, kind, false, x.steps())
 	return t
@@ -41,7 +42,7 @@ func (t told) to(side, d, c int) int {
 
 // follow follows the ways that are left.
 func (t told) follow(p api.Pos, c, kind int, took bool, steps api.Prog) {
-	p = copied(p)
+	p = specimen.Copied(p)
 	t.reads[c] = true
 	if len(steps) == 0 {
 		if p.At[c] == 0 {
@@ -238,7 +239,7 @@ func TestReading(t *testing.T) {
 	for x := range samples() {
 		l, cells := runs(t, x), reads(t, x)
 		y := x
-		y.p = copied(x.p)
+		y.p = specimen.Copied(x.p)
 		for c := range y.p.At {
 			if !slices.Contains(cells, c) {
 				y.p.At[c] = r.IntN(2*len(x.g.Kinds) + 1)
@@ -249,7 +250,7 @@ func TestReading(t *testing.T) {
 		}
 		want := map[string]bool{}
 		for _, o := range l {
-			o.Pos = copied(o.Pos)
+			o.Pos = specimen.Copied(o.Pos)
 			for c := range o.Pos.At {
 				if slices.Contains(cells, c) {
 					continue
@@ -269,7 +270,7 @@ func TestReading(t *testing.T) {
 
 // exchanged returns p with the sides exchanged.
 func exchanged(p api.Pos) api.Pos {
-	p = copied(p)
+	p = specimen.Copied(p)
 	for c, content := range p.At {
 		kind, side := game.Man(content)
 		p.At[c] = game.Code(kind, 1-side)

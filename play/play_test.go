@@ -3,7 +3,6 @@ package play_test
 import (
 	"math"
 	"slices"
-	"strconv"
 	"strings"
 	"testing"
 
@@ -21,18 +20,12 @@ const steppers = "kind a\nprog go0 empty\nprog go0 enemy take\n"
 // mixed has such a kind, too, and one whose men slide to capture, step backwards, and go into the hand.
 const mixed = steppers + "kind b keep\nprog slide0 enemy take\nprog go1 empty\n"
 
-// row returns the game on a row of cells, whose direction 0 leads to the right and 1 to the left, with one right, these kinds, and what follows in the text up to the clauses. Blocked is Loss.
+// row returns the game that specimen.Row does.
 func row(t *testing.T, cells int, kinds, clauses string) api.Game {
 	t.Helper()
-	right, left := "dir", "dir -1"
-	for c := 1; c < cells; c++ {
-		right += " " + strconv.Itoa(c)
-		left += " " + strconv.Itoa(c-1)
-	}
-	text := "board " + strconv.Itoa(cells) + " 2\n" + right + " -1\n" + left + "\nturn 1 0\n" + kinds + "rights 1\n" + clauses + "blocked loss\nendless draw\n"
-	g, e := game.Parse(text)
+	g, e := specimen.Row(cells, kinds, clauses)
 	if e != api.OK {
-		t.Fatalf("%q: %v", text, e)
+		t.Fatalf("%d cells, %q, %q: %v", cells, kinds, clauses, e)
 	}
 	return g
 }

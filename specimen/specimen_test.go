@@ -6,6 +6,7 @@ import (
 	"slices"
 	"testing"
 
+	"skewer/api"
 	"skewer/game"
 	"skewer/pos"
 	"skewer/specimen"
@@ -72,6 +73,37 @@ func TestCopied(t *testing.T) {
 		}
 		if fmt.Sprint(p) != text {
 			t.Fatalf("%v, not %s", p, text)
+		}
+	}
+}
+
+// A row has its steps, kinds, clauses and results; without cells, or with kinds or clauses that are wrong, there is none.
+func TestRow(t *testing.T) {
+	const kinds, clauses = "kind a\nprog go0 empty\n", "must\nfew 1 draw\n"
+	for cells := range 66 {
+		g, e := specimen.Row(cells, kinds, clauses)
+		if cells == 0 || cells > api.MaxCells {
+			if e == api.OK {
+				t.Errorf("%d cells: %v", cells, g)
+			}
+			continue
+		}
+		if e != api.OK || g.Board.Cells != cells || len(g.Kinds) != 1 || g.Rights != 1 || !g.Must || len(g.Clauses) != 1 || g.Blocked != api.Loss || g.Endless != api.Draw {
+			t.Fatalf("%d cells: %v, %v", cells, g, e)
+		}
+		for c := range cells {
+			to := c + 1
+			if to == cells {
+				to = -1
+			}
+			if g.Board.Next[0][c] != to || g.Board.Next[1][c] != c-1 {
+				t.Errorf("%d cells: %v", cells, g.Board)
+			}
+		}
+	}
+	for _, c := range [][2]string{{"", clauses}, {"kind A\n", clauses}, {kinds, "few 65 draw\n"}, {kinds, "must"}} {
+		if g, e := specimen.Row(3, c[0], c[1]); e == api.OK {
+			t.Errorf("%q: %v", c, g)
 		}
 	}
 }

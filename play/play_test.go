@@ -20,39 +20,10 @@ const steppers = "kind a\nprog go0 empty\nprog go0 enemy take\n"
 // mixed has such a kind, too, and one whose men slide to capture, step backwards, and go into the hand.
 const mixed = steppers + "kind b keep\nprog slide0 enemy take\nprog go1 empty\n"
 
-// row returns the game that specimen.Row does.
-func row(t *testing.T, cells int, kinds, clauses string) api.Game {
-	t.Helper()
-	g, e := specimen.Row(cells, kinds, clauses)
-	if e != api.OK {
-		t.Fatalf("%d cells, %q, %q: %v", cells, kinds, clauses, e)
-	}
-	return g
-}
-
-// parsed returns the position with the text s.
-func parsed(t *testing.T, g api.Game, s string) api.Pos {
-	t.Helper()
-	p, e := pos.Parse(g, s)
-	if e != api.OK {
-		t.Fatalf("%q: %v", s, e)
-	}
-	return p
-}
-
-// texts returns the texts of positions.
-func texts(g api.Game, l []api.Pos) string {
-	var all []string
-	for _, p := range l {
-		all = append(all, pos.Print(g, p))
-	}
-	return strings.Join(all, " ")
-}
-
 // checkMoves checks the texts of the moves from a position.
 func checkMoves(t *testing.T, g api.Game, s, want string) {
 	t.Helper()
-	if got := texts(g, play.Moves(g, parsed(t, g, s))); got != want {
+	if got := specimen.Texts(g, play.Moves(g, specimen.Parsed(t, g, s))); got != want {
 		t.Errorf("%s: moves %q, not %q", s, got, want)
 	}
 }
@@ -60,33 +31,33 @@ func checkMoves(t *testing.T, g api.Game, s, want string) {
 // checkStatus checks the result of a position that is over, or, if it is 0, that the position is not over.
 func checkStatus(t *testing.T, g api.Game, s string, want int) {
 	t.Helper()
-	p := parsed(t, g, s)
+	p := specimen.Parsed(t, g, s)
 	out, over := play.Status(g, p)
 	if out != want || over != (want != 0) {
 		t.Errorf("%s: %d, %v, not %d", s, out, over, want)
 	}
 	if moves := play.Moves(g, p); over != (len(moves) == 0) {
-		t.Errorf("%s: over: %v, moves %q", s, over, texts(g, moves))
+		t.Errorf("%s: over: %v, moves %q", s, over, specimen.Texts(g, moves))
 	}
 }
 
 // P6.1: the examples of the chapter.
 func TestExamples(t *testing.T) {
-	g := row(t, 3, steppers, "")
+	g := specimen.Row(t, 3, steppers, "")
 	checkMoves(t, g, "A.a/0/0/0/0", ".Aa/0/0/0/1")
 	checkMoves(t, g, ".Aa/0/0/0/1", ".a./0/0/0/0")
 	checkMoves(t, g, ".a./0/0/0/0", "")
 	checkStatus(t, g, "A.a/0/0/0/0", 0)
 	checkStatus(t, g, ".Aa/0/0/0/1", 0)
 	checkStatus(t, g, ".a./0/0/0/0", api.Loss)
-	g = row(t, 3, steppers, "few 0 win\n")
+	g = specimen.Row(t, 3, steppers, "few 0 win\n")
 	checkStatus(t, g, ".a./0/0/0/0", api.Win)
 	checkMoves(t, g, ".a./0/0/0/0", "")
 }
 
 // P6.1, P6.2: the moves of several men with several programs, and drops, in order.
 func TestMovesOf(t *testing.T) {
-	g := row(t, 4, mixed, "")
+	g := specimen.Row(t, 4, mixed, "")
 	for _, c := range []struct{ p, want string }{
 		{"A..A/00/00/0/0", ".A.A/00/00/0/1"},
 		{"A.A./00/00/1/0", ".AA./00/00/1/1 A..A/00/00/1/1"},
@@ -111,18 +82,18 @@ func TestMovesOf(t *testing.T) {
 
 // P6.1: moves that lead to the same position are one move: by two programs of a man, by several men, and by two ways of a program.
 func TestOneMove(t *testing.T) {
-	g := row(t, 4, "kind a\nprog go0 empty\nprog slide0 empty\nprog go0 empty\n", "")
+	g := specimen.Row(t, 4, "kind a\nprog go0 empty\nprog slide0 empty\nprog go0 empty\n", "")
 	checkMoves(t, g, ".A../0/0/0/0", "...A/0/0/0/1 ..A./0/0/0/1")
-	g = row(t, 3, "kind a\nprog become0\n", "")
+	g = specimen.Row(t, 3, "kind a\nprog become0\n", "")
 	checkMoves(t, g, "AAA/0/0/1/0", "AAA/0/0/1/1")
 	checkMoves(t, g, "aaA/0/0/1/1", "aaA/0/0/1/0")
-	g = row(t, 3, "kind a\nprog slide0 slide1\n", "")
+	g = specimen.Row(t, 3, "kind a\nprog slide0 slide1\n", "")
 	checkMoves(t, g, "A../0/0/0/0", ".A./0/0/0/1 A../0/0/0/1")
 }
 
 // P6.4: with Must, where one of the outcomes captures, moves without a capture, and drops, are not there.
 func TestCompulsion(t *testing.T) {
-	free, must := row(t, 4, mixed, ""), row(t, 4, mixed, "must\n")
+	free, must := specimen.Row(t, 4, mixed, ""), specimen.Row(t, 4, mixed, "must\n")
 	for _, c := range []struct{ p, free, must string }{
 		{"A.A./00/00/0/0", ".AA./00/00/0/1 A..A/00/00/0/1", ".AA./00/00/0/1 A..A/00/00/0/1"},
 		{"A.Aa/00/00/0/0", ".AAa/00/00/0/1 A..A/00/00/0/1", "A..A/00/00/0/1"},
@@ -172,7 +143,7 @@ func TestConditions(t *testing.T) {
 		{"few 64 win\n", "ABA./00/00/0/0", api.Win},
 		{"few 64 loss\n", "ABA./00/00/0/0", api.Loss},
 	} {
-		checkStatus(t, row(t, 4, mixed, c.clause), c.p, c.want)
+		checkStatus(t, specimen.Row(t, 4, mixed, c.clause), c.p, c.want)
 	}
 }
 
@@ -200,14 +171,14 @@ func TestFirstClause(t *testing.T) {
 		for _, i := range c.order {
 			clauses += three[i-'0']
 		}
-		checkStatus(t, row(t, 3, steppers, clauses), c.p, c.want)
+		checkStatus(t, specimen.Row(t, 3, steppers, clauses), c.p, c.want)
 	}
 }
 
 // P6.1, P6.3: without moves, the result is Blocked if no clause holds; without men, too.
 func TestBlocked(t *testing.T) {
 	for _, clauses := range []string{"", "must\n", "holds a 0 win\nholds a 0 draw\nholds a 0 loss\n"} {
-		g := row(t, 3, steppers, clauses)
+		g := specimen.Row(t, 3, steppers, clauses)
 		for g.Blocked = range api.Loss + 1 {
 			// The number 0 is no result.
 			if g.Blocked == 0 {
@@ -223,14 +194,14 @@ func TestBlocked(t *testing.T) {
 
 // P6.1: what is no move is not legal, be it a position or not.
 func TestLegal(t *testing.T) {
-	g := row(t, 4, mixed, "must\n")
-	p := parsed(t, g, "Ab.A/01/00/1/0")
-	move := parsed(t, g, ".A.A/02/00/1/1")
+	g := specimen.Row(t, 4, mixed, "must\n")
+	p := specimen.Parsed(t, g, "Ab.A/01/00/1/0")
+	move := specimen.Parsed(t, g, ".A.A/02/00/1/1")
 	if !play.Legal(g, p, move) {
 		t.Error("the capture is not legal")
 	}
 	for _, s := range []string{"Ab.A/01/00/1/0", "Ab.A/01/00/1/1", ".A.A/02/00/1/0", ".A.A/02/00/0/1", ".A.A/01/00/1/1", ".A.A/02/01/1/1", "AbBA/00/00/1/1", "..../00/00/0/0"} {
-		if play.Legal(g, p, parsed(t, g, s)) || play.Legal(g, move, parsed(t, g, s)) {
+		if play.Legal(g, p, specimen.Parsed(t, g, s)) || play.Legal(g, move, specimen.Parsed(t, g, s)) {
 			t.Errorf("%s is legal", s)
 		}
 	}
@@ -263,14 +234,14 @@ func TestLegal(t *testing.T) {
 // checkWalk checks the texts of the positions of a play.
 func checkWalk(t *testing.T, g api.Game, s string, picks []int, want string) {
 	t.Helper()
-	if got := texts(g, play.Walk(g, parsed(t, g, s), picks)); got != want {
+	if got := specimen.Texts(g, play.Walk(g, specimen.Parsed(t, g, s), picks)); got != want {
 		t.Errorf("%s, %v: %q, not %q", s, picks, got, want)
 	}
 }
 
 // P6.1, P6.6: picks are taken modulo the number of moves, and the remainder is not negative.
 func TestPicks(t *testing.T) {
-	g := row(t, 6, steppers, "")
+	g := specimen.Row(t, 6, steppers, "")
 	const p = "A.A.A./0/0/0/0"
 	moves := []string{".AA.A./0/0/0/1", "A..AA./0/0/0/1", "A.A..A/0/0/0/1"}
 	for _, c := range []struct{ pick, want int }{
@@ -284,7 +255,7 @@ func TestPicks(t *testing.T) {
 
 // P6.6: a play ends where picks do, or where it is over, by a clause, too.
 func TestPlays(t *testing.T) {
-	g := row(t, 4, steppers, "")
+	g := specimen.Row(t, 4, steppers, "")
 	const whole = "A..a/0/0/0/0 .A.a/0/0/0/1 .Aa./0/0/0/0 ..A./0/0/0/1"
 	positions := strings.Split(whole, " ")
 	for n := range 6 {
@@ -292,11 +263,11 @@ func TestPlays(t *testing.T) {
 	}
 	checkWalk(t, g, positions[0], nil, positions[0])
 	checkWalk(t, g, positions[3], []int{1, 2, 3}, positions[3])
-	g = row(t, 4, steppers, "holds a 2 win\n")
+	g = specimen.Row(t, 4, steppers, "holds a 2 win\n")
 	checkWalk(t, g, positions[0], []int{1, 2, 3}, strings.Join(positions[:3], " "))
 	checkWalk(t, g, positions[2], []int{1, 2, 3}, positions[2])
-	g = row(t, 2, "kind a\nprog become0\n", "")
-	if l := play.Walk(g, parsed(t, g, "Aa/0/0/1/0"), make([]int, 999)); len(l) != 1000 || texts(g, l[998:]) != "Aa/0/0/1/0 Aa/0/0/1/1" {
+	g = specimen.Row(t, 2, "kind a\nprog become0\n", "")
+	if l := play.Walk(g, specimen.Parsed(t, g, "Aa/0/0/1/0"), make([]int, 999)); len(l) != 1000 || specimen.Texts(g, l[998:]) != "Aa/0/0/1/0 Aa/0/0/1/1" {
 		t.Errorf("a play without end: %d positions", len(l))
 	}
 }
@@ -348,8 +319,8 @@ func TestLargest(t *testing.T) {
 
 // P2: results share no memory with the arguments, nor one part of them with another one.
 func TestMemory(t *testing.T) {
-	g := row(t, 4, mixed, "")
-	p := parsed(t, g, "A.../02/03/0/0")
+	g := specimen.Row(t, 4, mixed, "")
+	p := specimen.Parsed(t, g, "A.../02/03/0/0")
 	lists := [][]int{p.At, p.Hand[0], p.Hand[1]}
 	for _, l := range [][]api.Pos{play.Moves(g, p), play.Moves(g, p), play.Walk(g, p, nil), play.Walk(g, p, []int{1, 2})} {
 		for _, q := range l {

@@ -17,17 +17,7 @@ import (
 
 // samples yields valid games and positions. They are the same ones each time.
 func samples() iter.Seq2[api.Game, api.Pos] {
-	return func(yield func(api.Game, api.Pos) bool) {
-		pick := rand.New(rand.NewPCG(1, 2)).IntN
-		for range 2000 {
-			g := specimen.Game(pick)
-			for range 10 {
-				if !yield(g, specimen.Pos(pick, g)) {
-					return
-				}
-			}
-		}
-	}
+	return specimen.Samples(rand.New(rand.NewPCG(1, 2)).IntN, 2000, 10)
 }
 
 // men returns how many men of a side are on the board.

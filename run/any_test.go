@@ -60,7 +60,7 @@ func TestGreatGames(t *testing.T) {
 // P2: results share no memory with the arguments, nor one part of them with another one.
 func TestMemory(t *testing.T) {
 	g := row(t, 4, "slide0")
-	x := sample{g, parsed(t, g, "A.../02/03/0/0"), 0, 0}
+	x := sample{g, specimen.Parsed(t, g, "A.../02/03/0/0"), 0, 0}
 	var lists [][]int
 	add := func(p api.Pos) { lists = append(lists, p.At, p.Hand[0], p.Hand[1]) }
 	add(x.p)

@@ -39,29 +39,6 @@ func row(t *testing.T, cells int, program string) api.Game {
 	return g
 }
 
-// parsed returns the position with the text s.
-func parsed(t *testing.T, g api.Game, s string) api.Pos {
-	t.Helper()
-	p, e := pos.Parse(g, s)
-	if e != api.OK {
-		t.Fatalf("%q: %v", s, e)
-	}
-	return p
-}
-
-// texts returns the texts of outcomes, with a sign x behind those with a Take.
-func texts(g api.Game, l []api.Outcome) string {
-	var all []string
-	for _, o := range l {
-		s := pos.Print(g, o.Pos)
-		if o.Took {
-			s += "x"
-		}
-		all = append(all, s)
-	}
-	return strings.Join(all, " ")
-}
-
 // P5.1: the examples of the chapter.
 func TestExamples(t *testing.T) {
 	for _, c := range []struct {
@@ -77,14 +54,14 @@ func TestExamples(t *testing.T) {
 		{"AA./00/00/0/0", 0, "go0", "", "[0 1]"},
 	} {
 		g := row(t, 3, c.steps)
-		checkRun(t, sample{g, parsed(t, g, c.p), c.cell, 0}, c.want, c.read)
+		checkRun(t, sample{g, specimen.Parsed(t, g, c.p), c.cell, 0}, c.want, c.read)
 	}
 }
 
 // checkRun checks the texts of the outcomes of a man, and the cells that it reads.
 func checkRun(t *testing.T, x sample, want, read string) {
 	t.Helper()
-	if got := texts(x.g, runs(t, x)); got != want {
+	if got := specimen.OutcomeTexts(x.g, runs(t, x)); got != want {
 		t.Errorf("%s, %s: outcomes %q, not %q", pos.Print(x.g, x.p), prog.Print(x.steps()), got, want)
 	}
 	if got := fmt.Sprint(reads(t, x)); got != read {
@@ -151,7 +128,7 @@ func TestSteps(t *testing.T) {
 		{"A.../00/00/3/0", "lose1 need1", "", "[0]"},
 	} {
 		g := row(t, 4, c.steps)
-		p := parsed(t, g, c.p)
+		p := specimen.Parsed(t, g, c.p)
 		checkRun(t, sample{g, p, slices.Index(p.At, 1+p.Side), 0}, c.want, c.read)
 	}
 }
@@ -160,11 +137,11 @@ func TestSteps(t *testing.T) {
 func TestRing(t *testing.T) {
 	g := row(t, 4, "slide0")
 	g.Board.Next[0][3] = 0
-	checkRun(t, sample{g, parsed(t, g, "A.../00/00/0/0"), 0, 0}, "...A/00/00/0/1 ..A./00/00/0/1 .A../00/00/0/1", "[0 1 2 3]")
+	checkRun(t, sample{g, specimen.Parsed(t, g, "A.../00/00/0/0"), 0, 0}, "...A/00/00/0/1 ..A./00/00/0/1 .A../00/00/0/1", "[0 1 2 3]")
 	g = row(t, 4, "go0 slide0")
 	g.Board.Next[0][3] = 0
-	checkRun(t, sample{g, parsed(t, g, "A.../00/00/0/0"), 0, 0}, "...A/00/00/0/1 ..A./00/00/0/1 A.../00/00/0/1", "[0 1 2 3]")
-	checkRun(t, sample{g, parsed(t, g, "Ab../00/00/0/0"), 0, 0}, ".b.A/00/00/0/1 .bA./00/00/0/1 Ab../00/00/0/1", "[0 1 2 3]")
+	checkRun(t, sample{g, specimen.Parsed(t, g, "A.../00/00/0/0"), 0, 0}, "...A/00/00/0/1 ..A./00/00/0/1 A.../00/00/0/1", "[0 1 2 3]")
+	checkRun(t, sample{g, specimen.Parsed(t, g, "Ab../00/00/0/0"), 0, 0}, ".b.A/00/00/0/1 .bA./00/00/0/1 Ab../00/00/0/1", "[0 1 2 3]")
 }
 
 // fork returns a game on six cells, whose direction 0 leads from 0 to 4 and 5, the direction 1 from there to 1 and 2, and the direction 2 from both to 3.
@@ -179,15 +156,15 @@ func fork(t *testing.T, program string) api.Game {
 // P5.3: two ways have one outcome if each ends where the other one left a man of the same kind.
 func TestOneOutcome(t *testing.T) {
 	g := fork(t, "slide0 slide1 push2")
-	checkRun(t, sample{g, parsed(t, g, "AAA.../00/00/0/0"), 0, 0}, ".AAA../00/00/0/1", "[0 1 2 3 4 5]")
-	checkRun(t, sample{g, parsed(t, g, "AAB.../00/00/0/0"), 0, 0}, ".AAB../00/00/0/1 .ABA../00/00/0/1", "[0 1 2 3 4 5]")
+	checkRun(t, sample{g, specimen.Parsed(t, g, "AAA.../00/00/0/0"), 0, 0}, ".AAA../00/00/0/1", "[0 1 2 3 4 5]")
+	checkRun(t, sample{g, specimen.Parsed(t, g, "AAB.../00/00/0/0"), 0, 0}, ".AAB../00/00/0/1 .ABA../00/00/0/1", "[0 1 2 3 4 5]")
 }
 
 // P5.1: two ways that meet on a cell go on by themselves if their positions differ.
 func TestMeeting(t *testing.T) {
 	g := fork(t, "slide0 slide1 take go2")
-	checkRun(t, sample{g, parsed(t, g, "Aab.../00/00/0/0"), 0, 0}, "..bA../00/00/0/1x .a.A../01/00/0/1x", "[0 1 2 3 4 5]")
-	checkRun(t, sample{g, parsed(t, g, "Aab.../08/00/0/0"), 0, 0}, "..bA../08/00/0/1x", "[0 1 2 3 4 5]")
+	checkRun(t, sample{g, specimen.Parsed(t, g, "Aab.../00/00/0/0"), 0, 0}, "..bA../00/00/0/1x .a.A../01/00/0/1x", "[0 1 2 3 4 5]")
+	checkRun(t, sample{g, specimen.Parsed(t, g, "Aab.../08/00/0/0"), 0, 0}, "..bA../08/00/0/1x", "[0 1 2 3 4 5]")
 }
 
 // ring returns a man on a ring of cells, who slides around it as often as a program can.
@@ -250,7 +227,7 @@ func TestLargest(t *testing.T) {
 func TestErrors(t *testing.T) {
 	g := row(t, 4, "go0")
 	for side, men := range [2]string{"Ab.B/00/00/3/0", "bA.a/00/00/3/1"} {
-		p := parsed(t, g, men)
+		p := specimen.Parsed(t, g, men)
 		for _, cell := range append([]int{0, 1, 2, 3}, specimen.Edges()...) {
 			for _, i := range specimen.Edges() {
 				want := api.ErrRun
@@ -261,7 +238,7 @@ func TestErrors(t *testing.T) {
 			}
 		}
 	}
-	p := parsed(t, g, "Ab.B/00/00/3/0")
+	p := specimen.Parsed(t, g, "Ab.B/00/00/3/0")
 	for n, change := range []func(*api.Pos){
 		func(p *api.Pos) { p.At = p.At[:3] },
 		func(p *api.Pos) { p.At = append(p.At, 0) },
@@ -346,7 +323,7 @@ func TestDropsOf(t *testing.T) {
 		{"A../00/08/0/0", ""},
 	} {
 		var all []string
-		for _, q := range run.Drops(g, parsed(t, g, c.p)) {
+		for _, q := range run.Drops(g, specimen.Parsed(t, g, c.p)) {
 			all = append(all, pos.Print(g, q))
 		}
 		if got := strings.Join(all, " "); got != c.want {

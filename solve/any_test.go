@@ -82,7 +82,7 @@ func TestGreatGames(t *testing.T) {
 		checkRefused(t, g, nil)
 		checkRefused(t, g, []api.Pos{p})
 	}
-	h := row(t, 6, waiters, "")
+	h := specimen.Row(t, 6, waiters, "")
 	if l, e := solve.All(h, p); e != api.ErrArg || len(l) != 0 {
 		t.Errorf("%d positions, %v", len(l), e)
 	}
@@ -91,8 +91,8 @@ func TestGreatGames(t *testing.T) {
 
 // P2: results share no memory with the arguments, nor one part of them with another one.
 func TestMemory(t *testing.T) {
-	g := row(t, 6, waiters, "")
-	p := parsed(t, g, "A....b/00/00/0/0")
+	g := specimen.Row(t, 6, waiters, "")
+	p := specimen.Parsed(t, g, "A....b/00/00/0/0")
 	lists := [][]int{p.At, p.Hand[0], p.Hand[1]}
 	var l []api.Pos
 	for range 2 {

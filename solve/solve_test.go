@@ -3,7 +3,6 @@ package solve_test
 import (
 	"math"
 	"slices"
-	"strings"
 	"testing"
 
 	"skewer/api"
@@ -22,45 +21,16 @@ const goers = "kind a\nprog go0 empty\nprog go0 empty go0 empty\nkind b\nprog be
 // waiters has these kinds, but the men of the first one can wait, too.
 const waiters = "kind a\nprog go0 empty\nprog go0 empty go0 empty\nprog become0\nkind b\nprog become1\n"
 
-// row returns the game that specimen.Row does.
-func row(t *testing.T, cells int, kinds, clauses string) api.Game {
-	t.Helper()
-	g, e := specimen.Row(cells, kinds, clauses)
-	if e != api.OK {
-		t.Fatalf("%d cells, %q, %q: %v", cells, kinds, clauses, e)
-	}
-	return g
-}
-
-// parsed returns the position with the text s.
-func parsed(t *testing.T, g api.Game, s string) api.Pos {
-	t.Helper()
-	p, e := pos.Parse(g, s)
-	if e != api.OK {
-		t.Fatalf("%q: %v", s, e)
-	}
-	return p
-}
-
 // listed returns the list of what can be reached from the position with the text s, and the index of this one.
 func listed(t *testing.T, g api.Game, s string) ([]api.Pos, int) {
 	t.Helper()
-	p := parsed(t, g, s)
+	p := specimen.Parsed(t, g, s)
 	l, e := solve.All(g, p)
 	i := pos.Find(l, p)
 	if e != api.OK || i < 0 {
-		t.Fatalf("%s: %v, %v", s, texts(g, l), e)
+		t.Fatalf("%s: %v, %v", s, specimen.Texts(g, l), e)
 	}
 	return l, i
-}
-
-// texts returns the texts of positions.
-func texts(g api.Game, l []api.Pos) string {
-	var all []string
-	for _, p := range l {
-		all = append(all, pos.Print(g, p))
-	}
-	return strings.Join(all, " ")
 }
 
 // solved returns the values of a list that is closed.
@@ -68,7 +38,7 @@ func solved(t *testing.T, g api.Game, l []api.Pos) []api.Result {
 	t.Helper()
 	v, e := solve.Values(g, l)
 	if e != api.OK || len(v) != len(l) {
-		t.Fatalf("%s: values %v, %v", texts(g, l), v, e)
+		t.Fatalf("%s: values %v, %v", specimen.Texts(g, l), v, e)
 	}
 	return v
 }
@@ -86,7 +56,7 @@ func TestExample(t *testing.T) {
 		t.Fatal(e)
 	}
 	l, i := listed(t, g, "A.a/0/0/0/0")
-	if got := texts(g, l); got != ".Aa/0/0/0/1 A.a/0/0/0/0" || i != 1 {
+	if got := specimen.Texts(g, l); got != ".Aa/0/0/0/1 A.a/0/0/0/0" || i != 1 {
 		t.Error("All:", got)
 	}
 	if n, e := solve.Next(g, l); e != api.OK || len(n) != 2 || len(n[0]) != 0 || !slices.Equal(n[1], []int{0}) {
@@ -124,9 +94,9 @@ func TestAllOf(t *testing.T) {
 		{keepers, "", ".A./1/0/0/0", ".A./1/0/0/0 .AA/0/0/0/1 AA./0/0/0/1"},
 		{keepers, "", "..a/1/0/0/0", "..a/1/0/0/0 .Aa/0/0/0/1 .a./0/1/0/0 A.a/0/0/0/1"},
 	} {
-		g := row(t, 3, c.kinds, c.clauses)
+		g := specimen.Row(t, 3, c.kinds, c.clauses)
 		l, _ := listed(t, g, c.p)
-		if got := texts(g, l); got != c.want {
+		if got := specimen.Texts(g, l); got != c.want {
 			t.Errorf("%q, %q, %s: %q, not %q", c.kinds, c.clauses, c.p, got, c.want)
 		}
 	}
@@ -169,7 +139,7 @@ func TestLimit(t *testing.T) {
 		t.Errorf("values %v", v)
 	}
 	// Here, only a capture is possible, after which the men are as they were above.
-	p := parsed(t, g, "Aa...A....a..../0/0/15/0")
+	p := specimen.Parsed(t, g, "Aa...A....a..../0/0/15/0")
 	if m, e := solve.All(g, p); e != api.ErrBig || len(m) != 0 {
 		t.Errorf("%d positions, %v", len(m), e)
 	}
@@ -182,14 +152,14 @@ func TestLimit(t *testing.T) {
 
 // P7.3: the indices of moves, in order, for positions with many moves and without moves, and for a list of several plays.
 func TestNextOf(t *testing.T) {
-	g := row(t, 6, waiters, "")
+	g := specimen.Row(t, 6, waiters, "")
 	var l []api.Pos
 	for _, s := range []string{"..A..b/00/00/0/0", "..A..b/00/00/0/1", "....Ab/00/00/0/0", "A...../00/00/0/1"} {
 		more, _ := listed(t, g, s)
 		l = pos.Sort(append(l, more...))
 	}
 	const want = "....Ab/00/00/0/0 ....Ab/00/00/0/1 ...A.b/00/00/0/0 ...A.b/00/00/0/1 ..A..b/00/00/0/0 ..A..b/00/00/0/1 A...../00/00/0/1"
-	if got := texts(g, l); got != want {
+	if got := specimen.Texts(g, l); got != want {
 		t.Fatalf("%q", got)
 	}
 	n, e := solve.Next(g, l)
@@ -241,7 +211,7 @@ func TestValuesOf(t *testing.T) {
 		{4, waiters, "holds a 2 win\n", ".A.b/00/00/0/1", draw},
 		{4, waiters, "holds a 2 loss\n", ".A.b/00/00/0/0", win(1)},
 	} {
-		g := row(t, c.cells, c.kinds, c.clauses)
+		g := specimen.Row(t, c.cells, c.kinds, c.clauses)
 		l, i := listed(t, g, c.p)
 		if v := solved(t, g, l); v[i] != c.want {
 			t.Errorf("%q, %q, %s: %v, not %v", c.kinds, c.clauses, c.p, v[i], c.want)
@@ -280,7 +250,7 @@ func TestFinalOf(t *testing.T) {
 		{3, "holds a 1 win\n", "B.a/00/00/0/1", [3]int{l, d, w}},
 		{3, "holds a 1 win\n", ".Ab/00/00/0/1", [3]int{w, w, w}},
 	} {
-		g := row(t, c.cells, waiters, c.clauses)
+		g := specimen.Row(t, c.cells, waiters, c.clauses)
 		list, i := listed(t, g, c.p)
 		for n, want := range c.want {
 			g.Endless = api.Win + n
@@ -293,7 +263,7 @@ func TestFinalOf(t *testing.T) {
 
 // P7.4: the first entry that is not locally right, whatever the entries are, up to the farthest numbers.
 func TestRightOf(t *testing.T) {
-	g := row(t, 3, steppers, "")
+	g := specimen.Row(t, 3, steppers, "")
 	l, _ := listed(t, g, "A.a/0/0/0/1")
 	if n, e := solve.Next(g, l); e != api.OK || !slices.EqualFunc(n, [][]int{nil, {2}, {0}}, slices.Equal) {
 		t.Fatal(n, e)
@@ -353,17 +323,17 @@ func TestBestOf(t *testing.T) {
 		{4, goers, "holds a 1 draw\nholds a 2 win\n", "A..b/00/00/0/0", ".A.b/00/00/0/1"},
 		{4, goers, "holds a 1 win\nholds a 2 win\n", "A..b/00/00/0/0", "..Ab/00/00/0/1"},
 	} {
-		g := row(t, c.cells, c.kinds, c.clauses)
+		g := specimen.Row(t, c.cells, c.kinds, c.clauses)
 		l, i := listed(t, g, c.p)
-		if k, e := solve.Best(g, l, solved(t, g, l), i); e != api.OK || texts(g, l[k:k+1]) != c.q {
-			t.Errorf("%q, %q, %s: the index %d of %s, %v", c.kinds, c.clauses, c.p, k, texts(g, l), e)
+		if k, e := solve.Best(g, l, solved(t, g, l), i); e != api.OK || specimen.Texts(g, l[k:k+1]) != c.q {
+			t.Errorf("%q, %q, %s: the index %d of %s, %v", c.kinds, c.clauses, c.p, k, specimen.Texts(g, l), e)
 		}
 	}
 }
 
 // P7.1: there is no best move from a position that is not there, or over.
 func TestNoBest(t *testing.T) {
-	g := row(t, 3, steppers, "")
+	g := specimen.Row(t, 3, steppers, "")
 	l, _ := listed(t, g, "A.a/0/0/0/0")
 	v := solved(t, g, l)
 	for _, i := range []int{-1, 3, 4, math.MinInt, math.MaxInt} {
@@ -377,7 +347,7 @@ func TestNoBest(t *testing.T) {
 	if k, e := solve.Best(g, nil, nil, 0); k != 0 || e != api.ErrArg {
 		t.Errorf("no positions: %d, %v", k, e)
 	}
-	end := pos.Find(l, parsed(t, g, ".a./0/0/0/0"))
+	end := pos.Find(l, specimen.Parsed(t, g, ".a./0/0/0/0"))
 	if k, e := solve.Best(g, l, v, end); k != 0 || e != api.ErrNone {
 		t.Errorf("at the end: %d, %v", k, e)
 	}
@@ -403,7 +373,7 @@ func checkRefused(t *testing.T, g api.Game, l []api.Pos) {
 
 // P7.8: lists that are not in order, have positions twice, lack moves, or have positions that are not valid, are refused.
 func TestRefusals(t *testing.T) {
-	g := row(t, 6, waiters, "")
+	g := specimen.Row(t, 6, waiters, "")
 	l, _ := listed(t, g, "..A..b/00/00/0/0")
 	turned := slices.Clone(l)
 	slices.Reverse(turned)
@@ -441,7 +411,7 @@ func TestRefusals(t *testing.T) {
 	if n, e := solve.Next(g, l[:len(l)-2]); e != api.OK || len(n) != len(l)-2 {
 		t.Error("without the first moves:", n, e)
 	}
-	other := row(t, 5, waiters, "")
+	other := specimen.Row(t, 5, waiters, "")
 	checkRefused(t, other, l)
 	for _, v := range [][]api.Result{nil, make([]api.Result, len(l)-1), make([]api.Result, len(l)+1)} {
 		if k, e := solve.Right(g, l, v); k != 0 || e != api.ErrList {

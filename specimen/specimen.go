@@ -4,6 +4,7 @@
 package specimen
 
 import (
+	"iter"
 	"slices"
 
 	"skewer/api"
@@ -137,6 +138,20 @@ func Pos(pick Pick, g api.Game) api.Pos {
 		}
 	}
 	return p
+}
+
+// Samples yields so many valid games, each with so many valid positions.
+func Samples(pick Pick, games, positions int) iter.Seq2[api.Game, api.Pos] {
+	return func(yield func(api.Game, api.Pos) bool) {
+		for range games {
+			g := Game(pick)
+			for range positions {
+				if !yield(g, Pos(pick, g)) {
+					return
+				}
+			}
+		}
+	}
 }
 
 // Copied returns a position that is equal to p, and shares no memory with it.

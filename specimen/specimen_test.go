@@ -4,6 +4,8 @@ import (
 	"fmt"
 	"math/rand/v2"
 	"slices"
+	"strconv"
+	"strings"
 	"testing"
 
 	"skewer/api"
@@ -77,19 +79,31 @@ func TestCopied(t *testing.T) {
 	}
 }
 
+// failing is a test that fails by a panic with what is told.
+type failing struct{}
+
+func (failing) Helper() {}
+
+func (failing) Fatalf(format string, args ...any) { panic(fmt.Sprintf(format, args...)) }
+
+// failure returns how a test fails in the function; an empty text if it does not.
+func failure(do func(t specimen.Test)) (told string) {
+	defer func() {
+		if r := recover(); r != nil {
+			told = fmt.Sprint(r)
+		}
+	}()
+	do(failing{})
+	return ""
+}
+
 // A row has its steps, kinds, clauses and results; without cells, or with kinds or clauses that are wrong, there is none.
 func TestRow(t *testing.T) {
 	const kinds, clauses = "kind a\nprog go0 empty\n", "must\nfew 1 draw\n"
-	for cells := range 66 {
-		g, e := specimen.Row(cells, kinds, clauses)
-		if cells == 0 || cells > api.MaxCells {
-			if e == api.OK {
-				t.Errorf("%d cells: %v", cells, g)
-			}
-			continue
-		}
-		if e != api.OK || g.Board.Cells != cells || len(g.Kinds) != 1 || g.Rights != 1 || !g.Must || len(g.Clauses) != 1 || g.Blocked != api.Loss || g.Endless != api.Draw {
-			t.Fatalf("%d cells: %v, %v", cells, g, e)
+	for cells := 1; cells <= api.MaxCells; cells++ {
+		g := specimen.Row(t, cells, kinds, clauses)
+		if g.Board.Cells != cells || len(g.Kinds) != 1 || g.Rights != 1 || !g.Must || len(g.Clauses) != 1 || g.Blocked != api.Loss || g.Endless != api.Draw {
+			t.Fatalf("%d cells: %v", cells, g)
 		}
 		for c := range cells {
 			to := c + 1
@@ -101,9 +115,53 @@ func TestRow(t *testing.T) {
 			}
 		}
 	}
-	for _, c := range [][2]string{{"", clauses}, {"kind A\n", clauses}, {kinds, "few 65 draw\n"}, {kinds, "must"}} {
-		if g, e := specimen.Row(3, c[0], c[1]); e == api.OK {
-			t.Errorf("%q: %v", c, g)
+	for _, c := range []struct {
+		cells          int
+		kinds, clauses string
+	}{{0, kinds, clauses}, {65, kinds, clauses}, {3, "", clauses}, {3, "kind A\n", clauses}, {3, kinds, "few 65 draw\n"}, {3, kinds, "must"}} {
+		if told := failure(func(t specimen.Test) { specimen.Row(t, c.cells, c.kinds, c.clauses) }); !strings.Contains(told, strconv.Quote(c.kinds)) {
+			t.Errorf("%v: %q", c, told)
 		}
+	}
+}
+
+// Positions are read from their texts, which are told again.
+func TestTexts(t *testing.T) {
+	g := specimen.Row(t, 3, "kind a\n", "")
+	l := []api.Pos{specimen.Parsed(t, g, "A.a/0/0/0/0"), specimen.Parsed(t, g, "..a/0/0/1/1")}
+	if l[0].At[2] != 2 || l[1].Rights != 1 {
+		t.Errorf("%v", l)
+	}
+	if got := specimen.Texts(g, l); got != "A.a/0/0/0/0 ..a/0/0/1/1" {
+		t.Error(got)
+	}
+	if got := specimen.OutcomeTexts(g, []api.Outcome{{Pos: l[0]}, {Pos: l[1], Took: true}}); got != "A.a/0/0/0/0 ..a/0/0/1/1x" {
+		t.Error(got)
+	}
+	if got := specimen.Texts(g, nil) + specimen.OutcomeTexts(g, nil); got != "" {
+		t.Error(got)
+	}
+	if told := failure(func(t specimen.Test) { specimen.Parsed(t, g, "B../0/0/0/0") }); !strings.Contains(told, "B../0/0/0/0") {
+		t.Errorf("%q", told)
+	}
+}
+
+// Samples are as many as asked for, and valid; they end when no more are wanted.
+func TestSamples(t *testing.T) {
+	pick := rand.New(rand.NewPCG(5, 6)).IntN
+	positions := map[string]int{}
+	for g, p := range specimen.Samples(pick, 20, 3) {
+		if !game.Valid(g) || !pos.Valid(g, p) {
+			t.Fatalf("%v, %v", g, p)
+		}
+		positions[fmt.Sprint(g)]++
+	}
+	for g, n := range positions {
+		if n != 3 || len(positions) != 20 {
+			t.Errorf("%d games, %d positions of %s", len(positions), n, g)
+		}
+	}
+	for range specimen.Samples(pick, 20, 3) {
+		break
 	}
 }

@@ -4,7 +4,6 @@ import (
 	"fmt"
 	"math/rand/v2"
 	"reflect"
-	"slices"
 	"testing"
 
 	"skewer/api"
@@ -99,12 +98,5 @@ func TestMemory(t *testing.T) {
 			}
 		}
 	}
-	for n, l := range lists {
-		copy(l, slices.Repeat([]int{n}, len(l)))
-	}
-	for n, l := range lists {
-		if !slices.Equal(l, slices.Repeat([]int{n}, len(l))) {
-			t.Errorf("the list %d has changed: %v", n, l)
-		}
-	}
+	specimen.CheckApart(t, lists)
 }

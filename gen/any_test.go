@@ -127,14 +127,7 @@ func TestMemory(t *testing.T) {
 	if len(lists) != 3*(1+2*(4+4+2)) {
 		t.Fatal("not all results:", len(lists))
 	}
-	for n, l := range lists {
-		copy(l, slices.Repeat([]int{n}, len(l)))
-	}
-	for n, l := range lists {
-		if !slices.Equal(l, slices.Repeat([]int{n}, len(l))) {
-			t.Errorf("the list %d has changed: %v", n, l)
-		}
-	}
+	specimen.CheckApart(t, lists)
 }
 
 // P2: the lists of codes, and what could be added to them, share no memory.

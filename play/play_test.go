@@ -330,12 +330,5 @@ func TestMemory(t *testing.T) {
 	if len(lists) != 3*(1+4+4+1+3) {
 		t.Fatal("not all results:", lists)
 	}
-	for n, l := range lists {
-		copy(l, slices.Repeat([]int{n}, len(l)))
-	}
-	for n, l := range lists {
-		if !slices.Equal(l, slices.Repeat([]int{n}, len(l))) {
-			t.Errorf("the list %d has changed: %v", n, l)
-		}
-	}
+	specimen.CheckApart(t, lists)
 }

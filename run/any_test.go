@@ -4,7 +4,6 @@ import (
 	"fmt"
 	"math/rand/v2"
 	"reflect"
-	"slices"
 	"testing"
 
 	"skewer/api"
@@ -74,14 +73,5 @@ func TestMemory(t *testing.T) {
 	if len(lists) != 3+9+9+2 {
 		t.Fatal("not all results:", lists)
 	}
-	for n, l := range lists {
-		for i := range l {
-			l[i] = n
-		}
-	}
-	for n, l := range lists {
-		if !slices.Equal(l, slices.Repeat([]int{n}, len(l))) {
-			t.Errorf("the list %d has changed: %v", n, l)
-		}
-	}
+	specimen.CheckApart(t, lists)
 }

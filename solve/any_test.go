@@ -113,12 +113,5 @@ func TestMemory(t *testing.T) {
 	if v[0] = win(9); w[0] == v[0] {
 		t.Error("the values have changed")
 	}
-	for n, list := range lists {
-		copy(list, slices.Repeat([]int{n}, len(list)))
-	}
-	for n, list := range lists {
-		if !slices.Equal(list, slices.Repeat([]int{n}, len(list))) {
-			t.Errorf("the list %d has changed: %v", n, list)
-		}
-	}
+	specimen.CheckApart(t, lists)
 }

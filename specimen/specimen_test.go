@@ -146,6 +146,24 @@ func TestTexts(t *testing.T) {
 	}
 }
 
+// If lists share memory, the first one that has changed is told; lists that are equal, empty, or parts of one list side by side share none.
+func TestCheckApart(t *testing.T) {
+	l := []int{1, 2, 3, 4}
+	for _, c := range []struct {
+		lists [][]int
+		want  string
+	}{
+		{nil, ""},
+		{[][]int{l[:2], l[2:], nil, {5, 6}, {5, 6}, l[4:]}, ""},
+		{[][]int{{5, 6}, l[:3], l[2:]}, "the list 1 has changed: [1 1 2]"},
+		{[][]int{l, l}, "the list 0 has changed: [1 1 1 1]"},
+	} {
+		if got := failure(func(t specimen.Test) { specimen.CheckApart(t, c.lists) }); got != c.want {
+			t.Errorf("%q, not %q", got, c.want)
+		}
+	}
+}
+
 // Samples are as many as asked for, and valid; they end when no more are wanted.
 func TestSamples(t *testing.T) {
 	pick := rand.New(rand.NewPCG(5, 6)).IntN

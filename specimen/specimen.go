@@ -37,6 +37,19 @@ func Game(pick Pick) api.Game {
 	return g
 }
 
+// Even returns g, as Game returns one, with each program turned, too: so it often has symmetries.
+func Even(g api.Game) api.Game {
+	g.Kinds = slices.Clone(g.Kinds)
+	for i, k := range g.Kinds {
+		progs := slices.Clone(k.Progs)
+		for _, p := range k.Progs {
+			progs = append(progs, prog.Turned(p, g.Board.Turn))
+		}
+		g.Kinds[i].Progs = progs
+	}
+	return g
+}
+
 // board returns a valid board: half of the boards are rows, the others any graphs.
 func board(pick Pick) api.Board {
 	b := api.Board{Cells: 1 + pick(7), Turn: []int{1, 0}}

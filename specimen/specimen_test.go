@@ -11,6 +11,7 @@ import (
 	"skewer/api"
 	"skewer/game"
 	"skewer/pos"
+	"skewer/prog"
 	"skewer/specimen"
 )
 
@@ -30,6 +31,32 @@ func TestValid(t *testing.T) {
 	for n := range uint64(3000) {
 		if made(n) != made(n) {
 			t.Fatal("two specimens for", n)
+		}
+	}
+}
+
+// An even game has each program and the turned one, and is made of a copy.
+func TestEven(t *testing.T) {
+	pick := rand.New(rand.NewPCG(7, 8)).IntN
+	for range 1000 {
+		g := specimen.Game(pick)
+		before := fmt.Sprint(g)
+		even := specimen.Even(g)
+		for i, k := range g.Kinds {
+			want := slices.Clone(k.Progs)
+			for _, p := range k.Progs {
+				want = append(want, prog.Turned(p, g.Board.Turn))
+			}
+			if fmt.Sprint(even.Kinds[i].Progs) != fmt.Sprint(want) {
+				t.Fatalf("%v: %v", g, even)
+			}
+			even.Kinds[i].Progs = nil
+		}
+		if fmt.Sprint(g) != before {
+			t.Fatalf("%v, not %s", g, before)
+		}
+		if g = specimen.Even(g); !game.Valid(g) {
+			t.Fatalf("not valid: %v", g)
 		}
 	}
 }

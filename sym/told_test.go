@@ -122,12 +122,7 @@ func toldFound(g api.Game) []api.Sym {
 
 // even returns a valid game that often has symmetries: each program is there with its directions turned, too, and the board may have each cell twice, or few cells to which steps lead.
 func even(pick specimen.Pick) api.Game {
-	g := specimen.Game(pick)
-	for i, k := range g.Kinds {
-		for _, p := range k.Progs {
-			g.Kinds[i].Progs = append(g.Kinds[i].Progs, prog.Turned(p, g.Board.Turn))
-		}
-	}
+	g := specimen.Even(specimen.Game(pick))
 	if pick(4) > 0 {
 		g.Clauses = slices.DeleteFunc(g.Clauses, func(c api.Clause) bool { return c.If == api.Holds })
 	}

@@ -11,11 +11,12 @@ import (
 	"skewer/api"
 	"skewer/game"
 	"skewer/pos"
+	"skewer/specimen"
 )
 
 // P4.1: the examples of the chapter.
 func TestExamples(t *testing.T) {
-	g := gameOf(2, 2, false)
+	g := specimen.Still(2, 2, false)
 	p := posOf(1, 1, 0)
 	p.Rights, p.Side = 2, 1
 	if !game.Valid(g) || !pos.Valid(g, p) {

@@ -7,20 +7,11 @@ import (
 	"slices"
 
 	"skewer/api"
+	"skewer/specimen"
 )
 
 // edges has numbers around those that matter, and the farthest ones.
 var edges = []int{math.MinInt, math.MinInt32, -257, -256, -255, -2, -1, 0, 1, 2, 3, 4, 6, 7, 8, 9, 10, 11, 12, 13, 14, 15, 16, 17, 63, 64, 127, 128, 255, 256, 257, math.MaxInt32, math.MaxInt}
-
-// gameOf returns a valid game with this number of cells, with a kind for each element of keep, and with these rights.
-func gameOf(cells, rights int, keep ...bool) api.Game {
-	g := api.Game{Rights: rights, Blocked: api.Loss, Endless: api.Draw}
-	g.Board = api.Board{Cells: cells, Next: [][]int{slices.Repeat([]int{-1}, cells)}, Turn: []int{0}}
-	for i, k := range keep {
-		g.Kinds = append(g.Kinds, api.Kind{Name: string(rune('a' + i)), Keep: k})
-	}
-	return g
-}
 
 // posOf returns the position with these cells and empty hands, rights and side.
 func posOf(kinds int, at ...int) api.Pos {
@@ -29,7 +20,7 @@ func posOf(kinds int, at ...int) api.Pos {
 
 // largest returns the greatest valid game and the greatest one of its positions.
 func largest() (api.Game, api.Pos) {
-	g := gameOf(api.MaxCells, api.MaxRights, true, true, true, true, true, true)
+	g := specimen.Still(api.MaxCells, api.MaxRights, true, true, true, true, true, true)
 	p := api.Pos{At: slices.Repeat([]int{12}, api.MaxCells), Rights: 15, Side: 1}
 	for side := range p.Hand {
 		p.Hand[side] = slices.Repeat([]int{api.MaxHand}, api.MaxKinds)
@@ -50,7 +41,7 @@ func games() iter.Seq[api.Game] {
 			for i := range keep {
 				keep[i] = r.IntN(2) == 0
 			}
-			if !yield(gameOf(1+r.IntN(5), r.IntN(api.MaxRights+1), keep...)) {
+			if !yield(specimen.Still(1+r.IntN(5), r.IntN(api.MaxRights+1), keep...)) {
 				return
 			}
 		}

@@ -12,6 +12,7 @@ import (
 	"skewer/api"
 	"skewer/game"
 	"skewer/pos"
+	"skewer/specimen"
 )
 
 // refused checks that s is refused, and nothing is returned.
@@ -95,7 +96,7 @@ func changed(r *rand.Rand, s string) string {
 
 // P4.7, P4.8: texts of no position.
 func TestNoTexts(t *testing.T) {
-	g := gameOf(3, 4, false, true)
+	g := specimen.Still(3, 4, false, true)
 	if _, e := pos.Parse(g, ".aB/08/00/15/1"); e != api.OK {
 		t.Fatal(e)
 	}
@@ -122,8 +123,8 @@ func TestTextsOfOthers(t *testing.T) {
 		g    api.Game
 		want api.Errno
 	}{
-		{gameOf(3, 2, false), api.OK}, {gameOf(3, 2, true), api.OK}, {gameOf(3, 4, false), api.OK},
-		{gameOf(2, 2, false), api.ErrForm}, {gameOf(4, 2, false), api.ErrForm}, {gameOf(3, 2, false, false), api.ErrForm}, {gameOf(3, 1, false), api.ErrForm}, {gameOf(3, 0, false), api.ErrForm},
+		{specimen.Still(3, 2, false), api.OK}, {specimen.Still(3, 2, true), api.OK}, {specimen.Still(3, 4, false), api.OK},
+		{specimen.Still(2, 2, false), api.ErrForm}, {specimen.Still(4, 2, false), api.ErrForm}, {specimen.Still(3, 2, false, false), api.ErrForm}, {specimen.Still(3, 1, false), api.ErrForm}, {specimen.Still(3, 0, false), api.ErrForm},
 	} {
 		if _, e := pos.Parse(c.g, s); e != c.want {
 			t.Errorf("%v: %v", c.g, e)
@@ -197,7 +198,7 @@ func rightFor(g api.Game, p api.Pos) bool {
 func TestLimits(t *testing.T) {
 	for _, n := range slices.Concat(edges, []int{5, math.MaxUint8}) {
 		for rights := range api.MaxRights + 1 {
-			g := gameOf(2, rights, false, true, false)
+			g := specimen.Still(2, rights, false, true, false)
 			check := func(what string, want bool, change func(*api.Pos)) {
 				t.Helper()
 				p := posOf(3, 0, 0)
@@ -220,14 +221,14 @@ func TestLimits(t *testing.T) {
 			}
 		}
 	}
-	if pos.Valid(gameOf(1, 0, true), api.Pos{}) {
+	if pos.Valid(specimen.Still(1, 0, true), api.Pos{}) {
 		t.Error("the zero value")
 	}
 }
 
 // P2: a position that was read shares no memory within itself.
 func TestReadMemory(t *testing.T) {
-	g := gameOf(2, 0, true, true)
+	g := specimen.Still(2, 0, true, true)
 	p, e := pos.Parse(g, "A./11/11/0/0")
 	if e != api.OK {
 		t.Fatal(e)

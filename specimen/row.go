@@ -1,6 +1,7 @@
 package specimen
 
 import (
+	"slices"
 	"strconv"
 
 	"skewer/api"
@@ -19,6 +20,16 @@ func Row(t Test, cells int, kinds, clauses string) api.Game {
 	g, e := game.Parse(board + kinds + "rights 1\n" + clauses + "blocked loss\nendless draw\n")
 	if e != api.OK {
 		t.Fatalf("%d cells, %q, %q: %v", cells, kinds, clauses, e)
+	}
+	return g
+}
+
+// Still returns the game with so many cells, from which no steps lead, with a kind for each element of keep, which tells whether it is kept, and with so many rights. It is valid if these numbers are. Blocked is Loss, and Endless Draw.
+func Still(cells, rights int, keep ...bool) api.Game {
+	g := api.Game{Rights: rights, Blocked: api.Loss, Endless: api.Draw}
+	g.Board = api.Board{Cells: cells, Next: [][]int{slices.Repeat([]int{-1}, cells)}, Turn: []int{0}}
+	for i, k := range keep {
+		g.Kinds = append(g.Kinds, api.Kind{Name: string(rune('a' + i)), Keep: k})
 	}
 	return g
 }

@@ -152,6 +152,35 @@ func TestRow(t *testing.T) {
 	}
 }
 
+// A game without steps is valid exactly if its numbers of cells, rights and kinds are, and has these, with the kinds that are kept.
+func TestStill(t *testing.T) {
+	for cells := range api.MaxCells + 2 {
+		for rights := -1; rights <= api.MaxRights+1; rights++ {
+			for kinds := range api.MaxKinds + 2 {
+				keep := make([]bool, kinds)
+				for i := 1; i < kinds; i += 2 {
+					keep[i] = true
+				}
+				g := specimen.Still(cells, rights, keep...)
+				want := cells >= 1 && cells <= api.MaxCells && rights >= 0 && rights <= api.MaxRights && kinds >= 1 && kinds <= api.MaxKinds
+				if game.Valid(g) != want || g.Board.Cells != cells || g.Rights != rights || len(g.Kinds) != kinds {
+					t.Fatalf("%d, %d, %v: %v", cells, rights, keep, g)
+				}
+				for i, k := range g.Kinds {
+					if k.Keep != keep[i] {
+						t.Fatalf("%v: %v", keep, g)
+					}
+				}
+				for _, to := range g.Board.Next[0] {
+					if to != -1 {
+						t.Fatalf("%d: %v", cells, g.Board)
+					}
+				}
+			}
+		}
+	}
+}
+
 // Positions are read from their texts, which are told again.
 func TestTexts(t *testing.T) {
 	g := specimen.Row(t, 3, "kind a\n", "")

@@ -118,16 +118,7 @@ func rights(p api.Pos) int {
 func measures(pick specimen.Pick, g api.Game) []api.Measure {
 	l := []api.Measure{slice.Of(g)}
 	for range 3 {
-		least := anyWeights(pick, len(g.Kinds))
-		var m api.Measure
-		for kind := range g.Kinds {
-			weight := 0
-			for _, other := range toldLeads(g, kind) {
-				weight = max(weight, least[other])
-			}
-			m.Kinds = append(m.Kinds, weight)
-		}
-		l = append(l, m)
+		l = append(l, specimen.Measure(pick, g))
 	}
 	return l
 }

@@ -27,17 +27,7 @@ type sample struct {
 // made makes the samples, which are the same ones each time.
 var made = sync.OnceValue(func() []sample {
 	var all []sample
-	pick := rand.New(rand.NewPCG(1, 2)).IntN
-	for range 1500 {
-		g := specimen.Game(pick)
-		l, e := solve.All(g, specimen.Pos(pick, g))
-		if e != api.OK {
-			continue
-		}
-		// In some lists, there are several plays, and turns of both sides at the beginning.
-		if more, e := solve.All(g, specimen.Pos(pick, g)); e == api.OK && pick(2) == 0 {
-			l = pos.Sort(slices.Concat(l, more))
-		}
+	for g, l := range specimen.Lists(rand.New(rand.NewPCG(1, 2)).IntN, 1500) {
 		all = append(all, sample{g, l})
 	}
 	return all

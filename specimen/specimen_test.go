@@ -12,6 +12,7 @@ import (
 	"skewer/game"
 	"skewer/pos"
 	"skewer/prog"
+	"skewer/solve"
 	"skewer/specimen"
 )
 
@@ -237,5 +238,48 @@ func TestSamples(t *testing.T) {
 	}
 	for range specimen.Samples(pick, 20, 3) {
 		break
+	}
+}
+
+// Lists are closed, of as many games as asked for, or some less; in some, there are several positions to which no moves lead. They end when no more are wanted.
+func TestLists(t *testing.T) {
+	pick := rand.New(rand.NewPCG(7, 8)).IntN
+	lists, several := 0, 0
+	for g, l := range specimen.Lists(pick, 200) {
+		next, e := solve.Next(g, l)
+		if e != api.OK || len(l) == 0 {
+			t.Fatalf("%v, %v: %v", g, l, e)
+		}
+		after := map[int]bool{}
+		for _, to := range slices.Concat(next...) {
+			after[to] = true
+		}
+		lists++
+		if len(after) < len(l)-1 {
+			several++
+		}
+	}
+	if lists < 100 || lists >= 200 || several < 30 {
+		t.Errorf("%d lists, %d of them with several plays", lists, several)
+	}
+	for range specimen.Lists(pick, 200) {
+		break
+	}
+}
+
+// Measures are right: no kind becomes one with a greater weight. All that are right can come.
+func TestMeasure(t *testing.T) {
+	g := specimen.Row(t, 3, "kind a\nprog become1\nkind b\nprog become2\nkind c\nprog become1\n", "")
+	pick := rand.New(rand.NewPCG(9, 10)).IntN
+	found := map[string]bool{}
+	for range 5000 {
+		m := specimen.Measure(pick, g).Kinds
+		if len(m) != 3 || m[0] < m[1] || m[1] != m[2] || slices.Min(m) < 1 || slices.Max(m) > 6 {
+			t.Fatal(m)
+		}
+		found[fmt.Sprint(m)] = true
+	}
+	if len(found) != 21 {
+		t.Errorf("only %d measures", len(found))
 	}
 }
